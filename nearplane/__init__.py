@@ -1,0 +1,1 @@
+"""Nearplane: the plane that comes nearest to points, in exact fractions."""

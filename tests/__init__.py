@@ -1,0 +1,1 @@
+"""The project's tests: `python3 -m unittest` from the top of the repository runs them all."""

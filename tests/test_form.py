@@ -1,0 +1,98 @@
+"""The form of the package's files: the rules of the language part that can be seen at a glance."""
+
+import ast
+import builtins
+import pathlib
+import re
+import unittest
+
+PACKAGE = pathlib.Path(__file__).resolve().parent.parent / "nearplane"
+FILES = sorted(path for path in PACKAGE.rglob("*") if "__pycache__" not in path.parts)
+
+NODES = set("""
+    Module ImportFrom alias FunctionDef ClassDef arguments arg Lambda Expr Assign AugAssign
+    If While For Return Break Continue Pass Raise Try ExceptHandler
+    Constant List Tuple Dict Set Name Attribute Subscript Slice Call keyword ListComp comprehension
+    JoinedStr FormattedValue BinOp UnaryOp BoolOp Compare IfExp Load Store
+    Add Sub Mult FloorDiv Mod Pow BitAnd BitOr BitXor LShift RShift Invert Not USub And Or
+    Eq NotEq Lt LtE Gt GtE In NotIn Is IsNot
+""".split())
+OWN_OF_PYTHON = set("""
+    len range enumerate zip min max sum abs sorted reversed int str bool list tuple dict set frozenset
+    isinstance ord repr any all divmod ValueError TypeError KeyError IndexError LookupError Exception
+    ZeroDivisionError ArithmeticError OverflowError RuntimeError NotImplementedError StopIteration
+""".split())
+WORDS = re.compile(
+    r"\b(type|typing|typing_extensions|enum|Enum|IntEnum|StrEnum|Flag|IntFlag|Generic|Protocol|ABC|ABCMeta"
+    r"|namedtuple|NamedTuple|TypedDict|TYPE_CHECKING|abstractmethod)\b|dataclass|overload|contextmanager"
+)
+PLAIN_NAME = re.compile(r"\A[A-Za-z][A-Za-z0-9_]*\Z")
+METHODS = {"__init__", "__eq__", "__repr__", "__str__", "__len__"}
+
+
+def bound_names(nodes):
+    for node in nodes:
+        if isinstance(node, (ast.FunctionDef, ast.ClassDef)):
+            yield node.name
+        elif isinstance(node, ast.arg):
+            yield node.arg
+        elif isinstance(node, ast.Name) and isinstance(node.ctx, ast.Store):
+            yield node.id
+
+
+class Form(unittest.TestCase):
+    def check_each(self, check):
+        self.assertGreater(len(FILES), 1)
+        for path in FILES:
+            with self.subTest(path.name):
+                text = path.read_text(encoding="ascii")
+                check(text, list(ast.walk(ast.parse(text))))
+
+    def test_nothing_but_plain_files(self):
+        for path in FILES:
+            self.assertRegex(path.name, r"\A([a-z][a-z0-9_]*|__init__|__main__)\.py\Z")
+
+    def test_signs_words_and_sizes(self):
+        def check(text, nodes):
+            self.assertRegex(text, r"\A[ -~\n]*\Z")
+            self.assertIsNone(WORDS.search(text))
+            self.assertLessEqual(len(text.splitlines()), 400)
+            self.assertLessEqual(max(len(line) for line in text.splitlines()), 120)
+            for node in nodes:
+                if isinstance(node, ast.FunctionDef):
+                    self.assertLessEqual(node.end_lineno - node.lineno + 1, 40, node.name)
+        self.check_each(check)
+
+    def test_kinds_of_statements_and_expressions(self):
+        def check(text, nodes):
+            for node in nodes:
+                self.assertIn(type(node).__name__, NODES, getattr(node, "lineno", None))
+                if isinstance(node, ast.Constant):
+                    self.assertIsInstance(node.value, (int, str, type(None)))
+                if isinstance(node, ast.Assign):
+                    self.assertEqual(len(node.targets), 1)
+        self.check_each(check)
+
+    def test_imports_are_the_packages_own(self):
+        def check(text, nodes):
+            for node in nodes:
+                if isinstance(node, ast.ImportFrom):
+                    self.assertEqual(node.level, 0)
+                    self.assertTrue(node.module.startswith("nearplane."), node.module)
+                    self.assertNotIn("*", [part.name for part in node.names])
+        self.check_each(check)
+
+    def test_names(self):
+        def check(text, nodes):
+            for name in bound_names(nodes):
+                if name not in METHODS:
+                    self.assertRegex(name, PLAIN_NAME)
+                    self.assertFalse(hasattr(builtins, name), name)
+            for node in nodes:
+                if isinstance(node, ast.Name) and hasattr(builtins, node.id):
+                    self.assertIn(node.id, OWN_OF_PYTHON)
+        self.check_each(check)
+
+
+if __name__ == "__main__":
+    unittest.main()

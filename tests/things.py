@@ -1,0 +1,69 @@
+"""What several tests draw from: things of any kind, and ratios to try rules on."""
+
+from decimal import Decimal
+from fractions import Fraction
+
+from nearplane.ratios import ratio
+
+SIXTY = int("7" * 60)
+LARGE = int("9876543210" * 8)
+
+RATIOS = [
+    ratio(top, bottom)
+    for top in (0, 1, -1, 2, -3, 7, 12, SIXTY, -LARGE)
+    for bottom in (1, 2, 3, 10, 12, SIXTY + 1, LARGE + 7)
+]
+
+
+class Touchy:
+    """Fails whoever compares, counts, walks or turns it into something else."""
+
+    def refuse(self, *rest):
+        raise RuntimeError("touched")
+
+    __eq__ = __lt__ = __gt__ = __le__ = __ge__ = __bool__ = __len__ = __iter__ = refuse
+    __getitem__ = __contains__ = __hash__ = __int__ = __index__ = __str__ = __repr__ = refuse
+    __add__ = __mul__ = __mod__ = __floordiv__ = __abs__ = __neg__ = refuse
+
+
+def nested(depth, wrap):
+    thing = wrap([])
+    for _ in range(depth):
+        thing = wrap([thing])
+    return thing
+
+
+def kinds_of_anything():
+    """Things that are no whole number, no ratio, no text and no row of one or more."""
+    return [
+        None, True, False, ..., NotImplemented,
+        0.0, 1.0, -1.5, float("nan"), float("inf"), 1j, Fraction(1, 2), Decimal("1"),
+        b"", b"1", bytearray(b"1"), range(2), slice(1),
+        {}, {1: 2}, {"1": 1}, {(1, 1): (1, 1)}, set(), {1, 2}, frozenset([1, 2]),
+        object(), int, tuple, len, lambda: 1, iter([1, 2]), (n for n in (1, 2)),
+        ValueError("1"), Touchy(), nested(100, list), nested(100, tuple),
+        (), (1,), (1, 1, 1), ((1, 1),), ((1, 1), (1, 1)),
+        (None, 1), (1, None), (True, 1), (1, True), (False, True), (False, 1),
+        (1.0, 1), (1, 1.0), ("1", "1"), ("1", 1), (1, "1"), ([1], 1), (1, [1]), (1, {}),
+        (Touchy(), 1), (1, Touchy()), (Touchy(), Touchy()),
+        (2, 4), (-2, 4), (3, 3), (0, 2), (0, 300), (10 ** 299, 10 ** 298), (1, 0), (0, 0), (1, -1), (-1, -2),
+    ]
+
+
+def as_fraction(one):
+    return Fraction(one[0], one[1])
+
+
+def as_ratio(fraction):
+    return (fraction.numerator, fraction.denominator)
+
+
+def label(thing):
+    """Names a thing in a failure without touching it."""
+    return f"{type(thing).__name__} at {id(thing):x}" if holds_touchy(thing) else repr(thing)[:80]
+
+
+def holds_touchy(thing):
+    if isinstance(thing, (list, tuple)):
+        return any(holds_touchy(part) for part in thing)
+    return isinstance(thing, Touchy)
