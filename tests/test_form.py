@@ -28,6 +28,30 @@ WORDS = re.compile(
 )
 PLAIN_NAME = re.compile(r"\A[A-Za-z][A-Za-z0-9_]*\Z")
 METHODS = {"__init__", "__eq__", "__repr__", "__str__", "__len__"}
+METHODS_OF_PYTHON = set("""
+    append clear copy count endswith extend find get index insert isalnum isalpha isdigit islower isspace isupper
+    items join keys ljust lower lstrip partition pop remove replace reverse rfind rjust rpartition rsplit rstrip
+    setdefault split splitlines startswith strip update upper values zfill bit_length
+""".split())
+
+
+def drawn(text):
+    """Pairs of a file and a name that is drawn from it."""
+    rows = [node for node in ast.parse(text).body if isinstance(node, ast.ImportFrom)]
+    return [(node.module.split(".")[-1], part.asname or part.name) for node in rows for part in node.names]
+
+
+def defined_names(text):
+    """The names that a file's top defines: functions, classes and values."""
+    body = ast.parse(text).body
+    targets = [target for node in body if isinstance(node, ast.Assign) for target in node.targets]
+    return list(bound_names(body + targets))
+
+
+def local_names(text):
+    """The names that the defs of a file bind: parameters and locals."""
+    tops = [node for node in ast.parse(text).body if isinstance(node, (ast.FunctionDef, ast.ClassDef))]
+    return list(bound_names(node for top in tops for node in ast.walk(top) if isinstance(node, (ast.arg, ast.Name))))
 
 
 def bound_names(nodes):
@@ -80,6 +104,49 @@ class Form(unittest.TestCase):
                     self.assertEqual(node.level, 0)
                     self.assertTrue(node.module.startswith("nearplane."), node.module)
                     self.assertNotIn("*", [part.name for part in node.names])
+        self.check_each(check)
+
+    def test_what_is_drawn_from_a_file_is_defined_there(self):
+        def check(text, nodes):
+            for source, name in drawn(text):
+                self.assertIn(name, defined_names((PACKAGE / f"{source}.py").read_text(encoding="ascii")))
+        self.check_each(check)
+
+    def test_no_two_files_draw_from_one_another(self):
+        left = {path.stem: {source for source, _ in drawn(path.read_text(encoding="ascii"))} for path in FILES}
+        while left:
+            free = [name for name, sources in left.items() if not sources & set(left)]
+            self.assertTrue(free, left)
+            left = {name: sources for name, sources in left.items() if name not in free}
+
+    def test_each_name_of_a_files_top_is_bound_once_and_not_again_within(self):
+        def check(text, nodes):
+            tops = defined_names(text) + [name for _, name in drawn(text)]
+            self.assertEqual(len(tops), len(set(tops)))
+            self.assertFalse(set(tops) & set(local_names(text)))
+        self.check_each(check)
+
+    def test_comprehensions_and_is(self):
+        def check(text, nodes):
+            for node in nodes:
+                if isinstance(node, ast.ListComp):
+                    self.assertEqual(len(node.generators), 1)
+                    self.assertLessEqual(len(node.generators[0].ifs), 1)
+                if isinstance(node, ast.Compare) and isinstance(node.ops[0], (ast.Is, ast.IsNot)):
+                    self.assertIsInstance(node.comparators[0], ast.Constant)
+        self.check_each(check)
+
+    def test_methods_are_the_listed_ones_or_own(self):
+        own = set()
+        for path in FILES:
+            for node in ast.walk(ast.parse(path.read_text(encoding="ascii"))):
+                if isinstance(node, ast.ClassDef):
+                    own |= {part.name for part in node.body if isinstance(part, ast.FunctionDef)}
+
+        def check(text, nodes):
+            for node in nodes:
+                if isinstance(node, ast.Call) and isinstance(node.func, ast.Attribute):
+                    self.assertIn(node.func.attr, METHODS_OF_PYTHON | own, node.lineno)
         self.check_each(check)
 
     def test_names(self):

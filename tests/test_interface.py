@@ -3,7 +3,7 @@
 import inspect
 import unittest
 
-from nearplane import ratios, rows, texts
+from nearplane import deeds, equations, ratios, rows, tables, texts, upright
 
 SIGNATURES = [
     (ratios, {
@@ -18,6 +18,19 @@ SIGNATURES = [
         "is_row": "(thing, long)", "added": "(one, other)", "taken": "(one, other)",
         "scaled": "(row, by)", "dot": "(one, other, weights=None)",
         "mixed": "(rows, shares, long)", "is_still": "(row)",
+    }),
+    (tables, {
+        "turned": "(table, wide)", "product": "(one, other, wide)", "unit": "(many)",
+    }),
+    (deeds, {
+        "done": "(table, deeds)", "led_back": "(deeds)",
+    }),
+    (equations, {
+        "reduced": "(table, wide)", "measure": "(table)", "inverse": "(table)", "answer": "(table, wants, wide)",
+    }),
+    (upright, {
+        "lefts": "(rows, weights)", "nearest": "(rows, row, weights)", "dots": "(rows, weights)",
+        "square": "(row, weights)",
     }),
 ]
 

@@ -4,15 +4,11 @@ import unittest
 
 from nearplane.ratios import NOUGHT, ONE
 from nearplane.rows import added, dot, is_row, is_still, mixed, scaled, taken
-from tests.things import LARGE, RATIOS, as_fraction, as_ratio, kinds_of_anything, label
+from tests.things import LARGE, RATIOS, as_fraction, as_ratio, fractions_of, kinds_of_anything, label
 
 ONE_ROW = [(1, 2), (-1, 3), (0, 1)]
 OTHER_ROW = [(1, 2), (1, 6), (-5, 1)]
 WEIGHTS = [(2, 1), (1, 3), (7, 5)]
-
-
-def fractions_of(row):
-    return [as_fraction(one) for one in row]
 
 
 class IsRow(unittest.TestCase):

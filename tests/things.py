@@ -4,6 +4,7 @@ from decimal import Decimal
 from fractions import Fraction
 
 from nearplane.ratios import ratio
+from nearplane.texts import read_row
 
 SIXTY = int("7" * 60)
 LARGE = int("9876543210" * 8)
@@ -56,6 +57,55 @@ def as_fraction(one):
 
 def as_ratio(fraction):
     return (fraction.numerator, fraction.denominator)
+
+
+def fractions_of(row):
+    return [as_fraction(one) for one in row]
+
+
+def ratios_of(fractions):
+    return [as_ratio(fraction) for fraction in fractions]
+
+
+def rows_of(*texts):
+    return [read_row(text) for text in texts]
+
+
+def some_row(seed, long):
+    """Ratios of both signs, some of them noughts, the same ones for the same seed."""
+    row = []
+    state = 7919 * seed + 104729
+    for _ in range(long):
+        state = (state * 1103515245 + 12345) % 2 ** 31
+        top = (state >> 8) % 15 - 7
+        row.append(ratio(top, (state >> 16) % 4 + 1) if top % 3 != 0 else ratio(top // 3, 1))
+    return row
+
+
+def some_table(seed, many, wide):
+    return [some_row(100 * seed + k, wide) for k in range(many)]
+
+
+def some_weights(seed, long):
+    return [ratio(abs(one[0]) + 1, one[1] + 1) for one in some_row(seed, long)]
+
+
+def plain_dot(one, other, weights=None):
+    """The dot by Python's own fractions, as a fraction."""
+    weights = weights if weights is not None else [(1, 1)] * len(one)
+    things = zip(fractions_of(one), fractions_of(other), fractions_of(weights), strict=True)
+    return sum((left * right * weight for left, right, weight in things), Fraction(0))
+
+
+def plain_product(one, other, wide):
+    """The product of two tables by Python's own fractions, thing by thing."""
+    columns = [[row[k] for row in other] for k in range(wide)]
+    return [[as_ratio(plain_dot(row, column)) for column in columns] for row in one]
+
+
+def hanging_table(seed, many, wide, rank):
+    """A table with at most so many rows that do not hang on the others."""
+    return plain_product(some_table(seed, many, rank), some_table(seed + 1, rank, wide), wide)
 
 
 def label(thing):
