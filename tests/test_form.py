@@ -26,6 +26,16 @@ WORDS = re.compile(
     r"\b(type|typing|typing_extensions|enum|Enum|IntEnum|StrEnum|Flag|IntFlag|Generic|Protocol|ABC|ABCMeta"
     r"|namedtuple|NamedTuple|TypedDict|TYPE_CHECKING|abstractmethod)\b|dataclass|overload|contextmanager"
 )
+NOT_USED = set("""
+    register mro elements open input version_info with_traceback add_note format format_map
+    f_back f_code f_globals f_locals f_builtins f_lasti f_lineno f_trace tb_next tb_frame tb_lasti tb_lineno
+    co_names co_code co_consts gi_frame cr_frame
+""".split())
+VALUES_NOT_USED = set("""
+    items keys values pop update append clear extend insert remove reverse setdefault sort args encode format
+""".split())
+VALUES_OF_PYTHON = {name for kind in (str, int, list, dict, set, bytes) for name in dir(kind)}
+VALUES_ALLOWED = set("count index title find get join lower upper split strip copy add".split())
 PLAIN_NAME = re.compile(r"\A[A-Za-z][A-Za-z0-9_]*\Z")
 METHODS = {"__init__", "__eq__", "__repr__", "__str__", "__len__"}
 METHODS_OF_PYTHON = set("""
@@ -62,6 +72,23 @@ def bound_names(nodes):
             yield node.arg
         elif isinstance(node, ast.Name) and isinstance(node.ctx, ast.Store):
             yield node.id
+
+
+def classes_of(nodes):
+    return [node for node in nodes if isinstance(node, ast.ClassDef)]
+
+
+def all_classes():
+    return [one for path in FILES for one in classes_of(ast.walk(ast.parse(path.read_text(encoding="ascii"))))]
+
+
+def methods_of(one):
+    return [part.name for part in one.body if isinstance(part, ast.FunctionDef)]
+
+
+def values_of(one):
+    """The names of the values that a class's methods store."""
+    return {node.attr for node in ast.walk(one) if isinstance(node, ast.Attribute) and isinstance(node.ctx, ast.Store)}
 
 
 class Form(unittest.TestCase):
@@ -137,16 +164,84 @@ class Form(unittest.TestCase):
         self.check_each(check)
 
     def test_methods_are_the_listed_ones_or_own(self):
-        own = set()
-        for path in FILES:
-            for node in ast.walk(ast.parse(path.read_text(encoding="ascii"))):
-                if isinstance(node, ast.ClassDef):
-                    own |= {part.name for part in node.body if isinstance(part, ast.FunctionDef)}
+        own = {name for one in all_classes() for name in methods_of(one)}
 
         def check(text, nodes):
             for node in nodes:
                 if isinstance(node, ast.Call) and isinstance(node.func, ast.Attribute):
                     self.assertIn(node.func.attr, METHODS_OF_PYTHON | own, node.lineno)
+        self.check_each(check)
+
+    def test_no_method_is_handed_on(self):
+        own = {name for one in all_classes() for name in methods_of(one)}
+
+        def check(text, nodes):
+            called = {id(node.func) for node in nodes if isinstance(node, ast.Call)}
+            for node in nodes:
+                if isinstance(node, ast.Attribute) and node.attr in own | METHODS_OF_PYTHON:
+                    self.assertIn(id(node), called, node.lineno)
+        self.check_each(check)
+
+    def test_classes(self):
+        for one in all_classes():
+            with self.subTest(one.name):
+                self.assertEqual([one.decorator_list, one.keywords], [[], []])
+                self.assertLessEqual(len(one.bases), 1)
+                self.assertTrue(all(isinstance(part, (ast.FunctionDef, ast.Pass)) for part in one.body))
+                self.assertEqual(len(methods_of(one)), len(set(methods_of(one))))
+
+    def test_no_name_is_a_method_in_one_class_and_a_value_in_another(self):
+        methods = {name for one in all_classes() for name in methods_of(one)}
+        values = {name for one in all_classes() for name in values_of(one)}
+        self.assertFalse(methods & values)
+        self.assertFalse(values & VALUES_NOT_USED)
+        self.assertFalse(values & VALUES_OF_PYTHON - VALUES_ALLOWED)
+        self.assertFalse(methods & VALUES_OF_PYTHON - METHODS_OF_PYTHON - METHODS - {"add", "discard"})
+
+    def test_classes_stand_where_they_may(self):
+        names = {one.name for one in all_classes()}
+
+        def check(text, nodes):
+            allowed = {id(node.func) for node in nodes if isinstance(node, ast.Call)}
+            allowed |= {id(base) for one in classes_of(nodes) for base in one.bases}
+            for node in nodes:
+                if isinstance(node, ast.Name) and node.id in names:
+                    self.assertIn(id(node), allowed, node.lineno)
+        self.check_each(check)
+
+    def test_values_of_a_files_top_hold_no_lists_or_dicts_and_are_only_read(self):
+        def check(text, nodes):
+            body = ast.parse(text).body
+            kept = [node for node in body if isinstance(node, ast.Assign)]
+            for node in kept:
+                inner = list(ast.walk(node.value))[1:]
+                self.assertFalse([part for part in inner if isinstance(part, (ast.List, ast.Dict, ast.Set, ast.Call))])
+            large = {node.targets[0].id for node in kept if isinstance(node.value, (ast.List, ast.Dict))}
+            indexed = [node for node in nodes if isinstance(node, ast.Subscript) and isinstance(node.ctx, ast.Load)]
+            reads = {id(node.value) for node in indexed}
+            reads |= {id(node.comparators[0]) for node in nodes if isinstance(node, ast.Compare)}
+            for node in nodes:
+                if isinstance(node, ast.Name) and node.id in large and isinstance(node.ctx, ast.Load):
+                    self.assertIn(id(node), reads, node.lineno)
+        self.check_each(check)
+
+    def test_errors_are_raised_on_the_spot(self):
+        def check(text, nodes):
+            for node in nodes:
+                if isinstance(node, ast.Raise):
+                    self.assertIsInstance(node.exc, ast.Call)
+                if isinstance(node, ast.ExceptHandler):
+                    self.assertIsInstance(node.type, ast.Name)
+                    self.assertNotIn(node.type.id, ("Exception", "TypeError"))
+        self.check_each(check)
+
+    def test_names_that_are_not_used(self):
+        def check(text, nodes):
+            for node in nodes:
+                if isinstance(node, ast.Attribute):
+                    self.assertNotIn(node.attr, NOT_USED)
+                    self.assertRegex(node.attr, PLAIN_NAME)
+            self.assertFalse(set(bound_names(nodes)) & NOT_USED)
         self.check_each(check)
 
     def test_names(self):

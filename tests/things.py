@@ -3,8 +3,9 @@
 from decimal import Decimal
 from fractions import Fraction
 
+from nearplane.planes import Plane
 from nearplane.ratios import ratio
-from nearplane.texts import read_row
+from nearplane.texts import read, read_row
 
 SIXTY = int("7" * 60)
 LARGE = int("9876543210" * 8)
@@ -106,6 +107,65 @@ def plain_product(one, other, wide):
 def hanging_table(seed, many, wide, rank):
     """A table with at most so many rows that do not hang on the others."""
     return plain_product(some_table(seed, many, rank), some_table(seed + 1, rank, wide), wide)
+
+
+def points_of(*texts):
+    """Points, each told as ROW WANT or ROW WANT WEIGHT."""
+    told = []
+    for text in texts:
+        words = text.split(" ")
+        told.append((read_row(words[0]), read(words[1]), read(words[2]) if len(words) == 3 else (1, 1)))
+    return told
+
+
+def points_by(rows, seed):
+    """Points with these rows, and wants and weights the same ones for the same seed."""
+    return [(list(row), want, weight) for row, want, weight
+            in zip(rows, some_row(seed + 31, len(rows)), some_weights(seed + 57, len(rows)), strict=True)]
+
+
+def trial_fits():
+    """Pairs of points and wide: ordinary, with free columns, few points, alike ones, none, and of no columns."""
+    sizes = [(1, 1), (2, 1), (3, 2), (5, 2), (6, 3), (7, 4), (5, 5), (2, 4), (1, 3)]
+    told = [(points_by(some_table(seed, many, wide), seed), wide) for seed, (many, wide) in enumerate(sizes)]
+    told += [(points_by(hanging_table(seed, 6, 4, rank), seed), 4) for seed, rank in enumerate((0, 1, 2, 3, 2, 3))]
+    told += [(points_by([[]] * many, many), 0) for many in (0, 1, 3)]
+    told += [([], wide) for wide in (1, 2, 5)]
+    rows = some_table(8, 5, 2)
+    told.append((points_by([[(0, 1)] + row for row in rows], 3), 3))
+    told.append((points_by([row + row[:1] + [(0, 1), row[1], (1, 1)] for row in rows], 4), 6))
+    told.append((points_by(rows[:2] + rows[:2] + rows[:1], 5), 2))
+    told.append((points_by(rows, 6) + points_by(rows, 6), 2))
+    told.append((points_by(unit_rows(4), 7), 4))
+    told.append((points_by(some_table(9, 14, 12), 8), 12))
+    return told
+
+
+def laid(points, wide):
+    """A plane with these points, laid one behind another."""
+    plane = Plane(wide)
+    for row, want, weight in points:
+        plane.lay(row, want, weight)
+    return plane
+
+
+def unit_rows(many):
+    return [[(1, 1) if at == place else (0, 1) for at in range(many)] for place in range(many)]
+
+
+def columns_of(points, wide):
+    return [[point[0][k] for point in points] for k in range(wide)]
+
+
+def values_by(points, shares):
+    """The values at the points by some shares, as ratios."""
+    return [as_ratio(plain_dot(point[0], shares)) for point in points]
+
+
+def plain_squares(points, shares):
+    """The weighted sum of squares that some shares leave, by Python's own fractions, as a ratio."""
+    left = [as_fraction(want) - plain_dot(row, shares) for row, want, _ in points]
+    return as_ratio(plain_dot(ratios_of(left), ratios_of(left), [weight for _, _, weight in points]))
 
 
 def label(thing):
