@@ -32,13 +32,12 @@ def settled(sums, marked):
     # Only the first wrong column is held at nought, or let go again. It is right when those ahead of it are set right
     # once more, for there is just one floor where no column is free: so this comes to an end.
     held = []
-    shares = shares_by(sums, held)
-    wrong = first_wrong(sums, shares, marked)
-    while wrong is not None:
-        held = switched(held, wrong)
+    while True:
         shares = shares_by(sums, held)
         wrong = first_wrong(sums, shares, marked)
-    return shares
+        if wrong is None:
+            return shares
+        held = switched(held, wrong)
 
 
 def switched(held, column):
